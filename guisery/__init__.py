@@ -1,0 +1,1 @@
+"""Guisery: one-to-one letter machines, and the endless words that wear them."""
