@@ -10,7 +10,7 @@ MOST_FORM_ROWS = 60
 def form(letters, rows):
     """The guise of a machine, begun at row 0."""
     check_machine(letters, rows)
-    return least_form(rows)
+    return least_form(0, lambda at: rows[at])
 
 
 def still(letters):
@@ -37,9 +37,10 @@ def check_machine(letters, rows):
             raise BadMachine("a going is no row")
 
 
-def least_form(rows):
-    """The form of a machine of any count of rows that is known to be a good one."""
-    found = rows_come_to(rows)
+def least_form(first, row_at):
+    """The form of a good machine of any count of rows, begun at the first one: row_at tells each row, and
+    its goings are whatever rows are asked by (numbers, pairs of numbers)."""
+    found = rows_come_to(first, row_at)
     kinds = kinds_of_rows(found)
     # Both numberings go by who comes first, so the first row of each kind stands where the form wants it.
     least = []
@@ -49,13 +50,13 @@ def least_form(rows):
     return tuple(least)
 
 
-def rows_come_to(rows):
-    """The rows that are come to from row 0, numbered anew as they are first come to."""
-    order = [0]
-    places = {0: 0}
+def rows_come_to(first, row_at):
+    """The rows that are come to from the first one, numbered as they are first come to."""
+    order = [first]
+    places = {first: 0}
     found = []
     while len(found) < len(order):
-        rearranging, goings = rows[order[len(found)]]
+        rearranging, goings = row_at(order[len(found)])
         for going in goings:
             if going not in places:
                 places[going] = len(order)

@@ -13,6 +13,17 @@ def words(letters, many):
     return list(product(range(letters), repeat=many))
 
 
+def short_words(letters, most):
+    """All words of at most so many letters, the shorter ones first, of one length by rising letters."""
+    return [word for many in range(most + 1) for word in words(letters, many)]
+
+
+def is_tuples_all_through(told):
+    if isinstance(told, int):
+        return type(told) is int
+    return type(told) is tuple and all(is_tuples_all_through(part) for part in told)
+
+
 def read(rows, at, word):
     """What a machine begun at a row makes of a word, letter by letter."""
     made = []
@@ -95,3 +106,88 @@ def chain_machine(letters, many):
         (swap(letters) if row == many - 1 else leave, (min(row + 1, many - 1),) * letters)
         for row in range(many)
     ]
+
+
+def stairs_machine(letters, many):
+    """A machine that climbs a row at each last letter, begins anew at another one, and swaps letters at the top alone."""
+    leave = tuple(range(letters))
+    return [
+        (swap(letters) if row == many - 1 else leave, (0,) * (letters - 1) + (min(row + 1, many - 1),))
+        for row in range(many)
+    ]
+
+
+def counter_machine(letters):
+    """A machine that adds one to a number whose figures are the letters, the weightiest one last."""
+    leave = tuple(range(letters))
+    return [(leave[1:] + (0,), (1,) * (letters - 1) + (0,)), (leave, (1,) * letters)]
+
+
+def pair_machine(one, other):
+    """The machine of all pairs of rows that does what the one and then the other do."""
+    return [
+        (
+            tuple(then[letter] for letter in first),
+            tuple(goings[letter] * len(other) + ways[first[letter]] for letter in range(len(first))),
+        )
+        for first, goings in one
+        for then, ways in other
+    ]
+
+
+def machine_back(rows):
+    """The machine, row by row, that makes of each word the one that it came of."""
+    turned_back = []
+    for rearranging, goings in rows:
+        letters = range(len(rearranging))
+        came_of = tuple(rearranging.index(letter) for letter in letters)
+        turned_back.append((came_of, tuple(goings[came_of[letter]] for letter in letters)))
+    return turned_back
+
+
+def lengths_to_part(one, other):
+    """For each pair of rows that part, the length of the shortest word at which they do, found backwards."""
+    pairs = [(row, beside) for row in range(len(one)) for beside in range(len(other))]
+    lengths = {pair: 1 for pair in pairs if one[pair[0]][0] != other[pair[1]][0]}
+    length, grown = 1, True
+    while grown:
+        length += 1
+        found = [
+            pair for pair in pairs
+            if pair not in lengths and any(step in lengths for step in zip(one[pair[0]][1], other[pair[1]][1]))
+        ]
+        lengths.update((pair, length) for pair in found)
+        grown = bool(found)
+    return lengths
+
+
+def slow_parted(one, other):
+    """The word at which two machines part, letter by letter along the shortest lengths."""
+    lengths = lengths_to_part(one, other)
+    if (0, 0) not in lengths:
+        return None
+    word, row, beside = (), 0, 0
+    for left in range(lengths[0, 0] - 1, 0, -1):
+        steps = list(zip(one[row][1], other[beside][1]))
+        letter = min(letter for letter, step in enumerate(steps) if lengths.get(step) == left)
+        word += (letter,)
+        row, beside = steps[letter]
+    made = zip(one[row][0], other[beside][0])
+    return word + (min(letter for letter, (here, there) in enumerate(made) if here != there),)
+
+
+def late_letters(one, other):
+    """A word of noughts and ones, as long as one + other - 2, that comes again both after one and after other letters.
+
+    The two numbers have no common part. One letter more and it would be of one letter alone.
+    """
+    many = one + other - 2
+    letters = [None] * many
+    for letter, begin in ((0, one - 1), (1, other - 1)):
+        places = [begin]
+        while places:
+            place = places.pop()
+            if 0 <= place < many and letters[place] is None:
+                letters[place] = letter
+                places += [place - one, place + one, place - other, place + other]
+    return tuple(letters)

@@ -6,7 +6,8 @@ from guisery.errors import BadMachine, TooMany
 from guisery.machines import breadth, form, still
 
 from helper import (
-    BREADTHS, chain_machine, mixed_machine, read, rearrangings, ring_machine, slow_form, swap, words,
+    BREADTHS, chain_machine, is_tuples_all_through, mixed_machine, read, rearrangings, ring_machine, slow_form, swap,
+    words,
 )
 
 LEAVE = (0, 1)
@@ -41,12 +42,6 @@ def doubled(rows):
 
 def behaviour(rows, letters, many):
     return tuple(read(rows, 0, word) for word in words(letters, many))
-
-
-def is_tuples_all_through(told):
-    if isinstance(told, int):
-        return type(told) is int
-    return type(told) is tuple and all(is_tuples_all_through(part) for part in told)
 
 
 class Forms(unittest.TestCase):
