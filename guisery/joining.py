@@ -2,7 +2,7 @@
 
 from guisery.errors import BadCount
 from guisery.letters import turned, undone
-from guisery.machines import breadth, least_form, still
+from guisery.machines import begun_at, breadth, least_form, read_from, still
 from guisery.words import check_word
 
 MOST_TIMES = 64
@@ -38,11 +38,8 @@ def row_back(row):
 def behind(guise, word):
     """What the guise does to what follows a word."""
     check_word(breadth(guise), word)
-    at = 0
-    for letter in word:
-        rearranging, goings = guise[at]
-        at = goings[letter]
-    return least_form(at, lambda row: guise[row])
+    made, at = read_from(guise, 0, word)
+    return begun_at(guise, at)
 
 
 def branched(first, guises):

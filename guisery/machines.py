@@ -24,6 +24,22 @@ def breadth(guise):
     return len(rearranging)
 
 
+def begun_at(guise, row):
+    """The guise that a form is, begun at one of its rows."""
+    return least_form(row, lambda at: guise[at])
+
+
+def read_from(guise, row, word):
+    """A pair: what a form, begun at a row, makes of a good word, and the row at which it goes on."""
+    made = []
+    at = row
+    for letter in word:
+        rearranging, goings = guise[at]
+        made.append(rearranging[letter])
+        at = goings[letter]
+    return (tuple(made), at)
+
+
 def check_machine(letters, rows):
     """Refuse rows that are no machine, those that are never come to among them."""
     if not 1 <= len(rows) <= MOST_ROWS:

@@ -11,10 +11,23 @@ def check_word(letters, word):
         raise BadWord("a word has what is no letter")
 
 
-def plain_word(beginning, ring):
-    """The one plain pair of an endless word."""
+def check_endless(letters, endless):
+    """Refuse an endless word that has no ring, or what is none of so many letters."""
+    beginning, ring = endless
+    check_ring(ring)
+    check_word(letters, beginning)
+    check_word(letters, ring)
+
+
+def check_ring(ring):
+    """Refuse a ring without any letter."""
     if len(ring) == 0:
         raise BadWord("an endless word has no ring")
+
+
+def plain_word(beginning, ring):
+    """The one plain pair of an endless word."""
+    check_ring(ring)
     least = least_ring(ring)
     ringed = count_ringed(beginning, least)
     # The letters that the beginning gives up are the ring's last ones, so the ring begins that much earlier.

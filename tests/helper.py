@@ -1,8 +1,13 @@
 """What several files of tests need: machines to try, and other ways to reckon what the program tells."""
 
+from collections import deque
 from itertools import permutations, product
 
+from guisery.joining import branched
+from guisery.machines import form, still
+
 BREADTHS = (2, 3, 4, 5)
+FAR = 10 ** 40
 
 
 def rearrangings(letters):
@@ -191,3 +196,115 @@ def late_letters(one, other):
                 letters[place] = letter
                 places += [place - one, place + one, place - other, place + other]
     return tuple(letters)
+
+
+def mixed_word(letters, many, seed):
+    numbers = mixed_numbers(seed)
+    return tuple(next(numbers) % letters for place in range(many))
+
+
+def mixed(letters, many, seed, swaps=None):
+    return form(letters, mixed_machine(letters, many, seed, swaps))
+
+
+def ring(letters, many, swapped=(0,)):
+    return form(letters, ring_machine(letters, many, swapped))
+
+
+def chain(letters, many):
+    return form(letters, chain_machine(letters, many))
+
+
+def stairs(letters, many):
+    return form(letters, stairs_machine(letters, many))
+
+
+def counter(letters):
+    return form(letters, counter_machine(letters))
+
+
+def tailed_ring(letters, ahead, many):
+    """A guise of so many rows ahead of a ring, and so many in the ring, gone through whatever is read."""
+    leave = tuple(range(letters))
+    rows = [(leave, (row + 1,) * letters) for row in range(ahead + many)]
+    rows[ahead - 1] = (swap(letters), (ahead,) * letters)
+    rows[ahead] = (swap(letters), (ahead + 1,) * letters)
+    rows[-1] = (leave, (ahead,) * letters)
+    return form(letters, rows)
+
+
+def changing(letters, one, other):
+    """The first two letters swapped, the one guise behind 0 and the other behind 1, and all still behind the others."""
+    return branched(swap(letters), [one, other] + [still(letters)] * (letters - 2))
+
+
+def some_guises(letters):
+    """Small ones and large ones, of up to sixty rows."""
+    return [
+        still(letters), counter(letters), ring(letters, 7), chain(letters, 5), mixed(letters, 4, 1), mixed(letters, 9, 2),
+        ring(letters, 60), chain(letters, 60), stairs(letters, 60), mixed(letters, 60, 3),
+    ]
+
+
+def laid_out(endless, many):
+    """The first letters of an endless word, laid one behind another."""
+    beginning, ring = endless
+    laid = list(beginning)
+    while len(laid) < many:
+        laid += ring
+    return tuple(laid[:many])
+
+
+def is_plain(endless):
+    beginning, ring = endless
+    whole = [size for size in range(1, len(ring)) if len(ring) % size == 0 and ring == ring[:size] * (len(ring) // size)]
+    return len(ring) > 0 and not whole and (not beginning or beginning[-1] != ring[-1])
+
+
+def told_in_ways(endless):
+    """Other pairs for the same endless word."""
+    beginning, ring = endless
+    for more in (0, 1, len(ring) - 1, len(ring), len(ring) + 1, 3 * len(ring) + 2):
+        cut = more % len(ring)
+        longer = beginning + laid_out(((), ring), more)
+        for many in (1, 2, 3):
+            yield (longer, (ring[cut:] + ring[:cut]) * many)
+
+
+def small_endless(letters, most):
+    return [(beginning, ring) for beginning in short_words(letters, most) for ring in short_words(letters, most) if ring]
+
+
+def slow_plain(beginning, ring):
+    """The plain pair, one letter at a time."""
+    size = min(size for size in range(1, len(ring) + 1) if len(ring) % size == 0 and ring == ring[:size] * (len(ring) // size))
+    beginning, ring = list(beginning), deque(ring[:size])
+    while beginning and beginning[-1] == ring[-1]:
+        ring.rotate(1)
+        beginning.pop()
+    return (tuple(beginning), tuple(ring))
+
+
+def row_behind(rows, at, word):
+    """The row at which a machine begun at a row goes on behind a word."""
+    for letter in word:
+        at = rows[at][1][letter]
+    return at
+
+
+def slow_worn(rows, endless):
+    """What a machine makes of an endless word: the ring read again and again until a row comes again, then plain."""
+    beginning, ring = endless
+    begun = [row_behind(rows, 0, beginning)]
+    while begun[-1] not in begun[:-1]:
+        begun.append(row_behind(rows, begun[-1], ring))
+    made = [read(rows, at, ring) for at in begun[:-1]]
+    first = begun.index(begun[-1])
+    return slow_plain(read(rows, 0, beginning) + sum(made[:first], ()), sum(made[first:], ()))
+
+
+def spoilt(word, letters):
+    """The word with what is no letter at its first, a middle and its last place."""
+    for wrong in (letters, letters + 1, 10, FAR, -1, -letters, -FAR):
+        for at in sorted({0, len(word) // 2, len(word) - 1}):
+            yield word[:at] + (wrong,) + word[at + 1:]

@@ -6,59 +6,9 @@ from guisery.joining import back, behind, branched, joined, times
 from guisery.machines import form, still
 
 from helper import (
-    BREADTHS, chain_machine, counter_machine, is_tuples_all_through, machine_back, mixed_machine, mixed_numbers,
-    pair_machine, read, rearrangings, ring_machine, short_words, slow_form, stairs_machine, swap, words,
+    BREADTHS, FAR, chain, changing, counter, is_tuples_all_through, machine_back, mixed, mixed_word, pair_machine, read,
+    rearrangings, ring, short_words, slow_form, some_guises, stairs, swap, tailed_ring, words,
 )
-
-FAR = 10 ** 40
-
-
-def mixed(letters, many, seed, swaps=None):
-    return form(letters, mixed_machine(letters, many, seed, swaps))
-
-
-def ring(letters, many, swapped=(0,)):
-    return form(letters, ring_machine(letters, many, swapped))
-
-
-def chain(letters, many):
-    return form(letters, chain_machine(letters, many))
-
-
-def stairs(letters, many):
-    return form(letters, stairs_machine(letters, many))
-
-
-def counter(letters):
-    return form(letters, counter_machine(letters))
-
-
-def tailed_ring(letters, ahead, many):
-    """A guise of so many rows ahead of a ring, and so many in the ring, gone through whatever is read."""
-    leave = tuple(range(letters))
-    rows = [(leave, (row + 1,) * letters) for row in range(ahead + many)]
-    rows[ahead - 1] = (swap(letters), (ahead,) * letters)
-    rows[ahead] = (swap(letters), (ahead + 1,) * letters)
-    rows[-1] = (leave, (ahead,) * letters)
-    return form(letters, rows)
-
-
-def mixed_word(letters, many, seed):
-    numbers = mixed_numbers(seed)
-    return tuple(next(numbers) % letters for place in range(many))
-
-
-def some_guises(letters):
-    """Small ones and large ones, of up to sixty rows."""
-    return [
-        still(letters), counter(letters), ring(letters, 7), chain(letters, 5), mixed(letters, 4, 1), mixed(letters, 9, 2),
-        ring(letters, 60), chain(letters, 60), stairs(letters, 60), mixed(letters, 60, 3),
-    ]
-
-
-def changing(letters, one, other):
-    """The first two letters swapped, the one guise behind 0 and the other behind 1, and all still behind the others."""
-    return branched(swap(letters), [one, other] + [still(letters)] * (letters - 2))
 
 
 class Joined(unittest.TestCase):

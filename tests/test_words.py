@@ -4,44 +4,9 @@ from copy import deepcopy
 from guisery.errors import BadCount, BadWord
 from guisery.words import alike_for, head_of, letter_at, plain_word
 
-from helper import BREADTHS, is_tuples_all_through, late_letters, mixed_numbers, short_words, words
-
-FAR = 10 ** 40
-
-
-def laid_out(endless, many):
-    """The first letters of an endless word, laid one behind another."""
-    beginning, ring = endless
-    laid = list(beginning)
-    while len(laid) < many:
-        laid += ring
-    return tuple(laid[:many])
-
-
-def is_plain(endless):
-    beginning, ring = endless
-    shorter = [size for size in range(1, len(ring)) if ring == (ring[:size] * len(ring))[:len(ring)]]
-    whole = [size for size in shorter if len(ring) % size == 0]
-    return len(ring) > 0 and not whole and (not beginning or beginning[-1] != ring[-1])
-
-
-def mixed_word(letters, many, seed):
-    numbers = mixed_numbers(seed)
-    return tuple(next(numbers) % letters for place in range(many))
-
-
-def told_in_ways(endless):
-    """Other pairs for the same endless word."""
-    beginning, ring = endless
-    for more in (0, 1, len(ring) - 1, len(ring), len(ring) + 1, 3 * len(ring) + 2):
-        cut = more % len(ring)
-        longer = beginning + laid_out(((), ring), more)
-        for many in (1, 2, 3):
-            yield (longer, (ring[cut:] + ring[:cut]) * many)
-
-
-def small_endless(letters, most):
-    return [(beginning, ring) for beginning in short_words(letters, most) for ring in short_words(letters, most) if ring]
+from helper import (
+    BREADTHS, FAR, is_plain, is_tuples_all_through, laid_out, late_letters, mixed_word, small_endless, told_in_ways, words,
+)
 
 
 class PlainWords(unittest.TestCase):
