@@ -3,17 +3,17 @@
 from guisery.errors import BadCount
 from guisery.joining import MOST_TIMES, joined
 from guisery.letters import same_letters
-from guisery.machines import begun_at, breadth, still
+from guisery.machines import breadth, section_at, still
 
 
 def sections(guise):
     """The guises behind any words, in the order of the form's rows."""
-    return [begun_at(guise, row) for row in range(len(guise))]
+    return [section_at(guise, row) for row in range(len(guise))]
 
 
 def lasting(guise):
     """The sections that are behind themselves at some word that isn't empty, in the order of the form's rows."""
-    return [begun_at(guise, row) for row in range(len(guise)) if comes_again(guise, row)]
+    return [section_at(guise, row) for row in range(len(guise)) if comes_again(guise, row)]
 
 
 def comes_again(guise, row):

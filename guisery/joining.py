@@ -2,7 +2,7 @@
 
 from guisery.errors import BadCount
 from guisery.letters import turned, undone
-from guisery.machines import begun_at, breadth, least_form, read_from, still
+from guisery.machines import breadth, least_form, read_from, section_at, still
 from guisery.words import check_word
 
 MOST_TIMES = 64
@@ -39,7 +39,7 @@ def behind(guise, word):
     """What the guise does to what follows a word."""
     check_word(breadth(guise), word)
     made, at = read_from(guise, 0, word)
-    return begun_at(guise, at)
+    return section_at(guise, at)
 
 
 def branched(first, guises):

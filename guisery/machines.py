@@ -9,7 +9,7 @@ MOST_FORM_ROWS = 60
 
 def form(letters, rows):
     """The guise of a machine, begun at row 0."""
-    check_machine(letters, rows)
+    check_machine(letters, rows, MOST_ROWS)
     return least_form(0, lambda at: rows[at])
 
 
@@ -24,7 +24,7 @@ def breadth(guise):
     return len(rearranging)
 
 
-def begun_at(guise, row):
+def section_at(guise, row):
     """The guise that a form is, begun at one of its rows."""
     return least_form(row, lambda at: guise[at])
 
@@ -40,10 +40,10 @@ def read_from(guise, row, word):
     return (tuple(made), at)
 
 
-def check_machine(letters, rows):
-    """Refuse rows that are no machine, those that are never come to among them."""
-    if not 1 <= len(rows) <= MOST_ROWS:
-        raise BadMachine("a machine has from 1 to 400 rows")
+def check_machine(letters, rows, most):
+    """Refuse rows that are no machine of so many rows at most, those that are never come to among them."""
+    if not 1 <= len(rows) <= most:
+        raise BadMachine(f"a machine has from 1 to {most} rows here")
     for rearranging, goings in rows:
         if not rearranges(letters, rearranging):
             raise BadMachine("a row has no rearranging of the letters")

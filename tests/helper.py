@@ -3,6 +3,7 @@
 from collections import deque
 from itertools import permutations, product
 
+from guisery.errors import NothingLeft
 from guisery.joining import branched
 from guisery.machines import form, still
 
@@ -241,8 +242,8 @@ def changing(letters, one, other):
 def some_guises(letters):
     """Small ones and large ones, of up to sixty rows."""
     return [
-        still(letters), counter(letters), ring(letters, 7), chain(letters, 5), mixed(letters, 4, 1), mixed(letters, 9, 2),
-        ring(letters, 60), chain(letters, 60), stairs(letters, 60), mixed(letters, 60, 3),
+        still(letters), counter(letters), ring(letters, 7), chain(letters, 5), mixed(letters, 4, 1),
+        mixed(letters, 9, 2), ring(letters, 60), chain(letters, 60), stairs(letters, 60), mixed(letters, 60, 3),
     ]
 
 
@@ -308,3 +309,26 @@ def spoilt(word, letters):
     for wrong in (letters, letters + 1, 10, FAR, -1, -letters, -FAR):
         for at in sorted({0, len(word) // 2, len(word) - 1}):
             yield word[:at] + (wrong,) + word[at + 1:]
+
+
+def stand(house):
+    """All that a house tells of how it stands."""
+    return (
+        house.letters(), house.deeds(),
+        {name: house.guise(name) for name in house.names()},
+        {peg: (house.word(peg), house.first_word(peg), house.layers(peg)) for peg in house.pegs()},
+    )
+
+
+def stands(house):
+    """How a house stands, and each stand that it comes to when all is taken back, and when all is done again."""
+    told = [stand(house)]
+    for back in (True, False):
+        other = house.twin()
+        try:
+            while True:
+                other.undo() if back else other.redo()
+                told.append((back, stand(other)))
+        except NothingLeft:
+            pass
+    return told

@@ -7,8 +7,8 @@ from guisery.joining import back, behind, branched, joined, times
 from guisery.machines import form, still
 
 from helper import (
-    BREADTHS, FAR, chain, changing, counter, is_tuples_all_through, mixed, pair_machine, rearrangings, ring, short_words,
-    slow_form, some_guises, stairs, swap, tailed_ring, words,
+    BREADTHS, FAR, chain, changing, counter, is_tuples_all_through, mixed, pair_machine, rearrangings, ring,
+    short_words, slow_form, some_guises, stairs, swap, tailed_ring, words,
 )
 
 

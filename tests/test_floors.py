@@ -7,8 +7,8 @@ from guisery.joining import branched, joined
 from guisery.machines import form, still
 
 from helper import (
-    BREADTHS, FAR, chain, counter, mixed, mixed_word, read, rearrangings, ring, short_words, some_guises, spoilt, stairs,
-    swap, words,
+    BREADTHS, FAR, chain, counter, mixed, mixed_word, read, rearrangings, ring, short_words, some_guises, spoilt,
+    stairs, swap, words,
 )
 
 # The most letters of which there are at most 1024 words.

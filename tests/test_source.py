@@ -24,6 +24,17 @@ NODES_OUT = (
     ast.Await, ast.GeneratorExp, ast.NamedExpr, ast.Div, ast.MatMult,
 )
 
+METHODS = set(
+    "append clear copy count endswith extend find get index insert isalnum isalpha isdigit islower isspace isupper "
+    "items join keys ljust lower lstrip partition pop remove replace reverse rfind rjust rpartition rsplit rstrip "
+    "setdefault split splitlines startswith strip update upper values zfill bit_length removeprefix removesuffix".split()
+)
+NAMES_OUT = set(
+    "register mro elements open input version_info with_traceback add_note attrgetter breakpoint builtins compile "
+    "copyright credits delattr dir eval exec exit gc getattr globals hasattr help id importlib license locals "
+    "methodcaller os quit setattr super type vars sys args".split()
+)
+
 
 def sources():
     return [(path.name, path.read_text(encoding="utf-8")) for path in sorted(PACKAGE.glob("*.py"))]
@@ -45,6 +56,35 @@ def names_given(node):
     if isinstance(node, ast.Name):
         return [node.id]
     return []
+
+
+def trees():
+    return {name[:-3]: ast.parse(text) for name, text in sources()}
+
+
+def names_at_top(tree):
+    """The names that a file gives at its top, its imports aside."""
+    given = [node.name for node in tree.body if isinstance(node, (ast.FunctionDef, ast.ClassDef))]
+    return given + [target.id for node in tree.body if isinstance(node, ast.Assign) for target in node.targets]
+
+
+def imports(tree):
+    """Pairs of a file and a name that is drawn from it."""
+    return [
+        (node.module.split(".")[1], alias.name)
+        for node in tree.body if isinstance(node, ast.ImportFrom) for alias in node.names
+    ]
+
+
+def own_methods():
+    return {
+        node.name for tree in trees().values() for held in ast.walk(tree) if isinstance(held, ast.ClassDef)
+        for node in held.body if isinstance(node, ast.FunctionDef)
+    }
+
+
+def own_values():
+    return {node.attr for at, node in nodes() if isinstance(node, ast.Attribute) and isinstance(node.ctx, ast.Store)}
 
 
 class Source(unittest.TestCase):
@@ -97,3 +137,77 @@ class Source(unittest.TestCase):
                 self.assertIsInstance(node.ctx, ast.Load, at)
             if isinstance(node, ast.arg):
                 self.assertFalse(hasattr(builtins, node.arg), at)
+
+    def test_is_stands_beside_none_true_and_false_alone(self):
+        for at, node in nodes():
+            if isinstance(node, ast.Compare) and any(isinstance(sign, (ast.Is, ast.IsNot)) for sign in node.ops):
+                self.assertIsInstance(node.comparators[-1], ast.Constant, at)
+                self.assertIn(node.comparators[-1].value, (None, True, False), at)
+
+    def test_calls_are_plain(self):
+        for at, node in nodes():
+            if isinstance(node, ast.Call):
+                self.assertFalse([one for one in node.args if isinstance(one, ast.Starred)], at)
+                self.assertFalse([one for one in node.keywords if one.arg is None], at)
+            if isinstance(node, ast.FormattedValue):
+                self.assertIsNone(node.format_spec, at)
+
+    def test_methods_are_own_ones_or_listed(self):
+        methods = METHODS | own_methods()
+        values = own_values()
+        for at, node in nodes():
+            if isinstance(node, ast.Call) and isinstance(node.func, ast.Attribute):
+                self.assertIn(node.func.attr, methods, at)
+            elif isinstance(node, ast.Attribute):
+                self.assertIn(node.attr, methods | values, at)
+
+    def test_no_name_is_a_method_and_a_value(self):
+        self.assertEqual(own_methods() & own_values(), set())
+        for name in own_methods() - UNDERSCORED:
+            self.assertFalse(hasattr(int, name) or hasattr(list, name) or hasattr(dict, name) or hasattr(set, name), name)
+            self.assertTrue(name in METHODS or not (hasattr(str, name) or hasattr(bytes, name)), name)
+
+    def test_names_that_are_not_used(self):
+        for at, node in nodes():
+            for name in names_given(node):
+                self.assertNotIn(name, NAMES_OUT, at)
+
+    def test_names_of_a_files_top_are_given_once(self):
+        for name, tree in trees().items():
+            given = names_at_top(tree) + [drawn for module, drawn in imports(tree)]
+            self.assertEqual(sorted(given), sorted(set(given)), name)
+
+    def test_names_are_drawn_from_the_file_that_defines_them(self):
+        held = {name: names_at_top(tree) for name, tree in trees().items()}
+        for name, tree in trees().items():
+            for module, drawn in imports(tree):
+                self.assertIn(drawn, held[module], name)
+
+    def test_no_two_files_draw_from_one_another(self):
+        drawn = {name: {module for module, held in imports(tree)} for name, tree in trees().items()}
+        while drawn:
+            free = [name for name in drawn if not drawn[name] & set(drawn)]
+            self.assertTrue(free, drawn)
+            for name in free:
+                del drawn[name]
+
+    def test_locals_are_not_called_like_imports_and_classes(self):
+        for name, tree in trees().items():
+            out = {drawn for module, drawn in imports(tree)}
+            out |= {node.name for node in tree.body if isinstance(node, ast.ClassDef)}
+            for node in ast.walk(tree):
+                if isinstance(node, ast.arg):
+                    self.assertNotIn(node.arg, out, f"{name}:{node.lineno}")
+                if isinstance(node, ast.Name) and isinstance(node.ctx, ast.Store):
+                    self.assertNotIn(node.id, out, f"{name}:{node.lineno}")
+
+    def test_lists_and_dicts_of_a_files_top_are_only_read_on_the_spot(self):
+        for name, tree in trees().items():
+            kept = {
+                target.id for node in tree.body if isinstance(node, ast.Assign)
+                if isinstance(node.value, (ast.Dict, ast.List)) for target in node.targets
+            }
+            for node in ast.walk(tree):
+                parts = [] if isinstance(node, (ast.Subscript, ast.Compare, ast.Assign)) else list(ast.iter_child_nodes(node))
+                for part in parts:
+                    self.assertFalse(isinstance(part, ast.Name) and part.id in kept, f"{name}:{getattr(part, 'lineno', 0)}")
